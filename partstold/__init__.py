@@ -1,0 +1,1 @@
+"""Partstold: states that come from below."""
