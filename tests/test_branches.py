@@ -4,7 +4,7 @@ import copy
 import itertools
 import unittest
 
-from helper import NOT_NAMES, Agreeing, nested
+from helper import NOT_NAMES, Agreeing, listed, nested
 
 from partstold.books import Book, Kind
 from partstold.branches import size, state_of, states_below
@@ -25,12 +25,6 @@ def deep(many):
     for step in range(many - 1):
         branch = ("level", (branch,))
     return branch
-
-
-def listed(branch):
-    """Returns a branch with lists for tuples."""
-    kind, rest = branch
-    return [kind, rest if isinstance(rest, str) else [listed(part) for part in rest]]
 
 
 class States(unittest.TestCase):

@@ -72,6 +72,10 @@ class Language(unittest.TestCase):
             "books": ["Book", "Kind"],
             "branches": ["size", "state_of", "states_below"],
             "known": ["levels", "lights", "ticks", "votes", "work"],
+            "possible": ["idle", "least", "possible", "unlike"],
+            "surroundings": ["filled", "is_paper", "paper", "table_of", "tables"],
+            "deeds": ["added", "carried", "carrier", "struck"],
+            "everywhere": ["alike", "parting"],
         }
         for path, tree in trees():
             names = [node.name for node in tree.body if isinstance(node, (ast.FunctionDef, ast.ClassDef))]
