@@ -6,34 +6,44 @@ the row alone, for each choice of the other parts; so the search for surrounding
 
 from partstold.leasts import chosen_others, counts_of_others, least_branches, least_parts
 from partstold.rules import rules_of
+from partstold.waiting import Waiting
+
+
+class Choices:
+    """What the choices of other parts make of a task, each as a way.
+
+    A way is a tuple of the size of the other parts, of these parts, and of a dict from what the parts that
+    are not chosen may have (the keys) to the states of the task.
+    """
+
+    def __init__(self, ways, keys):
+        self.all_ways = unlike_ways(ways, keys)
+        self.ways_by_keys = {}
+
+    def unlike(self, keys):
+        """Returns least ways, one for each thing they can make of some keys, which are a tuple."""
+        if keys not in self.ways_by_keys:
+            self.ways_by_keys[keys] = unlike_ways(self.all_ways, keys)
+        return self.ways_by_keys[keys]
 
 
 class Ways:
-    """The ways that lead from a part to the task above it, in the branches of a book.
-
-    A way of a kind is a tuple of the size of the other parts, of these parts, and of a dict from the
-    states of the part to the states of the task.
-    """
+    """The ways that lead from a part to the task above it, in the branches of a book."""
 
     def __init__(self, book):
         self.rules = rules_of(book)
         self.leasts = least_branches(self.rules)
-        self.all_ways = {}
+        self.choices = {}
         for name, rule in self.rules.items():
-            ways = ways_of(rule, least_parts(rule, self.leasts))
-            self.all_ways[name] = unlike_ways(ways, book.states)
-        self.ways_by_states = {}
+            self.choices[name] = Choices(ways_of(rule, self.least_parts_of(name)), book.states)
+
+    def least_parts_of(self, name):
+        """Returns a dict from the states that a part of a task of a kind can have to sizes and least branches."""
+        return least_parts(self.rules[name], self.leasts)
 
     def possible_states(self, name):
         """Returns the ascending tuple of the states that are possible for a kind."""
         return tuple(sorted(self.leasts[name]))
-
-    def ways_from(self, name, states):
-        """Returns least ways of a kind, one for each thing they can do with some states of the part."""
-        key = (name, states)
-        if key not in self.ways_by_states:
-            self.ways_by_states[key] = unlike_ways(self.all_ways[name], states)
-        return self.ways_by_states[key]
 
     def steps(self, name, row):
         """Returns all steps from a task with a row to a task above it.
@@ -44,13 +54,13 @@ class Ways:
         steps = []
         for above, rule in self.rules.items():
             if name in rule.part_kinds:
-                for size, others, told in self.ways_from(above, states):
+                for size, others, told in self.choices[above].unlike(states):
                     steps.append((above, tuple([told[state] for state in row]), size, others))
         return steps
 
 
 def ways_of(rule, parts):
-    """Returns the ways of a kind, for all counts of the other parts."""
+    """Returns the ways from a state of a part to a task of a kind, for all counts of the other parts."""
     ways = []
     for counts, size in counts_of_others(rule, parts):
         told = {state: rule.told_with(counts, state) for state in rule.state_row}
@@ -58,35 +68,47 @@ def ways_of(rule, parts):
     return ways
 
 
-def unlike_ways(ways, states):
-    """Returns, of all ways that do the same with some states of the part, the one with the least other parts."""
+def unlike_ways(ways, keys):
+    """Returns, of all ways that make the same of some keys, the one with the least other parts."""
     best = {}
     for way in ways:
-        row = tuple([way[2][state] for state in states])
+        row = tuple([way[2][key] for key in keys])
         if row not in best or way[0] < best[row][0]:
             best[row] = way
     return list(best.values())
 
 
 def climbed(ways, starts):
-    """Returns a dict from pairs of a kind and a row, those of a top task, to least surroundings.
+    """Returns a dict from places, which are pairs of a kind and a row of a top task, to least surroundings.
 
-    The starts are such pairs of the hole. The surroundings come in ascending order of their size.
+    The starts are the places of the hole. The surroundings come in ascending order of their size.
+    """
+    found = climbed_on(ways, [(0, place, ()) for place in starts])
+    return {place: thing for place, (size, thing) in found.items()}
+
+
+def climbed_on(ways, starts):
+    """Returns a dict from places to the sizes and the least things that lead there, in ascending order of the size.
+
+    The starts are tuples of a size, of a place, and of a thing that leads there.
     """
     found = {}
-    sizes = {start: 0 for start in starts}
-    waiting = {0: [(start, ()) for start in starts]}
-    while len(waiting) > 0:
-        size = min(list(waiting))
-        rows = waiting.pop(size)
-        reached = {place: surrounding for place, surrounding in rows if place not in found}
-        for place, surrounding in reached.items():
-            found[place] = surrounding
+    sizes = {}
+    waiting = Waiting()
+    for size, place, thing in starts:
+        if place not in sizes or size < sizes[place]:
+            sizes[place] = size
+            waiting.wait(size, (place, thing))
+    while not waiting.is_empty():
+        size, rows = waiting.leave()
+        reached = {place: thing for place, thing in rows if place not in found}
+        for place, thing in reached.items():
+            found[place] = (size, thing)
             for above, row, size_of_others, others in ways.steps(*place):
                 new_size = size + 1 + size_of_others
                 if (above, row) not in sizes or new_size < sizes[above, row]:
                     sizes[above, row] = new_size
-                    waiting.setdefault(new_size, []).append(((above, row), (above, (surrounding, *others))))
+                    waiting.wait(new_size, ((above, row), (above, (thing, *others))))
     return found
 
 

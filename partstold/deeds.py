@@ -55,7 +55,7 @@ def added_pairs(ways, kind):
     no_parts = (0,) * len(rule.state_row)
     # A first part takes the place of the hand state, whichever it was.
     pairs = [(old, rule.told_with(no_parts, state)) for old in rule.hand_states for state in states]
-    for counts, size in counts_of_parts(rule, least_parts(rule, ways.leasts)):
+    for counts in counts_of_parts(rule, least_parts(rule, ways.leasts)):
         pairs.extend([(rule.telling[counts], rule.told_with(counts, state)) for state in states])
     return pairs
 
@@ -66,6 +66,6 @@ def struck_pairs(ways, kind):
     parts = least_parts(rule, ways.leasts)
     pairs = []
     # The counts are those of the parts that are left; as there are some, the struck one is not the last.
-    for counts, size in counts_of_parts(rule, parts):
+    for counts in counts_of_parts(rule, parts):
         pairs.extend([(rule.told_with(counts, state), rule.telling[counts]) for state in parts])
     return pairs

@@ -37,7 +37,7 @@ def idle(book):
 
 def counting_indexes(kind, rule, parts):
     """Returns the list of the indexes that count for tasks with such parts."""
-    rows = [listed(rule.state_row, counts) for counts, size in counts_of_parts(rule, parts)]
+    rows = [listed(rule.state_row, counts) for counts in counts_of_parts(rule, parts)]
     return sorted({kind.counting(row) for row in rows})
 
 

@@ -92,6 +92,31 @@ def surroundings(book, hole, most):
     return found
 
 
+def doubles(book, first_hole, second_hole, most):
+    """Returns a dict from the kinds to the lists of pairs of a size and a double surrounding, for all sizes up to the greatest.
+
+    Its first hole is to the left of the second one, whatever else stands beside them.
+    """
+    below = branches(book, most - 1)
+    first, second = surroundings(book, first_hole, most - 1), surroundings(book, second_hole, most - 1)
+    found = {name: [] for name in book.names}
+    for size in range(1, most + 1):
+        new = {name: [] for name in book.names}
+        for name in book.names:
+            parts = book.kind_named(name).parts
+            choices = [row for part in parts for row in below[part]]
+            inner = [(own, (thing,)) for part in parts for own, thing in found[part]]
+            for one_size, one in [row for part in parts for row in first[part]]:
+                for two_size, two in [row for part in parts for row in second[part]]:
+                    inner.append((one_size + two_size, (one, two)))
+            for own, things in inner:
+                for others in rows_of_parts(choices, size - 1 - own):
+                    new[name].append((size, (name, (*things, *others))))
+        for name in book.names:
+            found[name] += new[name]
+    return found
+
+
 def least_sizes(book):
     """Returns, for each kind, a dict from the states that are possible to the least sizes."""
     found = {name: {state: 1 for state in book.kind_named(name).hand} for name in book.names}
@@ -123,9 +148,9 @@ def part_rows(book, name, found):
 def least_climbs(book, starts):
     """Returns a dict from pairs of a kind of the top task and a row of states to the least sizes of surroundings.
 
-    The starts are such pairs of the hole.
+    The starts are such pairs of the hole, or a dict from such pairs to sizes.
     """
-    found = {start: 0 for start in starts}
+    found = dict(starts) if isinstance(starts, dict) else {start: 0 for start in starts}
     sizes = least_sizes(book)
     others = {name: part_rows(book, name, sizes) for name in book.names}
     changed = True
@@ -141,6 +166,88 @@ def least_climbs(book, starts):
                             found[place] = size + more + 1
                             changed = True
     return found
+
+
+def least_forks(book, one, two):
+    """Returns a dict from pairs of a kind of the top task and a row of four to the least sizes of double surroundings."""
+    sizes = least_sizes(book)
+    first, second = [least_climbs(book, [(kind, (old, new))]) for kind, old, new in [one, two]]
+    starts = {}
+    for name in book.names:
+        kind = book.kind_named(name)
+        ahead = [(pair, size) for (part, pair), size in first.items() if part in kind.parts]
+        behind = [(pair, size) for (part, pair), size in second.items() if part in kind.parts]
+        for others, more in part_rows(book, name, sizes) if ahead and behind else []:
+            for ((a, b), own), ((c, d), their) in itertools.product(ahead, behind):
+                row = tuple(kind.told([*others, *pair]) for pair in [(a, c), (b, c), (a, d), (b, d)])
+                size = 1 + own + their + more
+                starts[name, row] = min(size, starts.get((name, row), size))
+    return least_climbs(book, starts)
+
+
+def least_numbers(book, among):
+    """Returns, for each kind, a dict from pairs of a state and a number to the least sizes of branches.
+
+    The number is that of the tasks without parts whose state is among some states, where 4 stands for more, too.
+    So do four parts with one state; no condition of the books that are made here counts as many.
+    """
+    found = {name: {(state, int(state in among)): 1 for state in book.kind_named(name).hand} for name in book.names}
+    changed = True
+    while changed:
+        changed = False
+        for name in book.names:
+            kind = book.kind_named(name)
+            for (states, many), size in sums_of_parts([found[part] for part in kind.parts]).items():
+                place = kind.told(states), many
+                if states and size + 1 < found[name].get(place, size + 2):
+                    found[name][place] = size + 1
+                    changed = True
+    return found
+
+
+def sums_of_parts(choices):
+    """Returns a dict from pairs of ascending states and a number to the least sizes of rows of parts."""
+    sums = {((), 0): 0}
+    waiting = list(sums)
+    while waiting:
+        states, many = waiting.pop(0)
+        for (state, more), size in [row for rows in choices for row in rows.items()]:
+            place = tuple(sorted([*states, state])) if states.count(state) < 4 else states, min(4, many + more)
+            if sums[states, many] + size < sums.get(place, 10 ** 9):
+                sums[place] = sums[states, many] + size
+                waiting.append(place)
+    return sums
+
+
+def leaves_of(thing):
+    """Returns the list of the states of the tasks without parts of a branch, from left to right."""
+    return [rest for kind, rest in tasks_in(thing) if isinstance(rest, str)]
+
+
+def settings_of(book, branch):
+    """Yields all branches that come of setting the tasks without parts of a branch in any way, with the number of settings."""
+    kind, rest = branch
+    if isinstance(rest, str):
+        for state in book.kind_named(kind).hand:
+            yield int(state != rest), (kind, state)
+    else:
+        for row in itertools.product(*[list(settings_of(book, part)) for part in rest]):
+            yield sum(many for many, part in row), (kind, tuple(part for many, part in row))
+
+
+def random_branch(book, chance, kind, depth, width):
+    """Returns a branch of a kind of which there is one, at most so deep and its tasks with so many parts if possible."""
+    sizes = least_sizes(book)
+    own = book.kind_named(kind)
+    parts = [part for part in own.parts if sizes[part]]
+    if own.hand and (depth <= 0 or not parts or chance.random() < 0.3):
+        return kind, chance.choice(own.hand)
+    if depth <= 0:
+        # A least branch ends, whichever parts may be parts of each other.
+        least_of = min(parts, key=lambda part: min(sizes[part].values()))
+        return kind, (random_branch(book, chance, least_of, depth - 1, 1),)
+    many = chance.randrange(width) + 1
+    return kind, tuple(random_branch(book, chance, chance.choice(parts), depth - 1, width) for step in range(many))
 
 
 def tasks_in(branch):

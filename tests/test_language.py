@@ -76,11 +76,15 @@ class Language(unittest.TestCase):
             "surroundings": ["filled", "is_paper", "paper", "table_of", "tables"],
             "deeds": ["added", "carried", "carrier", "struck"],
             "everywhere": ["alike", "parting"],
+            "forks": ["filled_twice", "flickers", "fork", "rows"],
+            "sure": ["is_sure", "least_with"],
+            "mending": ["fewest", "settings"],
+            "trees": ["Tree"],
         }
-        for path, tree in trees():
-            names = [node.name for node in tree.body if isinstance(node, (ast.FunctionDef, ast.ClassDef))]
-            for name in listed.get(path.stem, []):
-                self.assertIn(name, names)
+        defined = {path.stem: [node.name for node in tree.body if isinstance(node, (ast.FunctionDef, ast.ClassDef))]
+                   for path, tree in trees()}
+        for module, names in listed.items():
+            self.assertLessEqual(set(names), set(defined[module]))
 
     def test_l3_module_level(self):
         for path, tree in trees():
@@ -96,6 +100,15 @@ class Language(unittest.TestCase):
             for decorator in node.decorator_list:
                 self.assertIn(ast.unparse(decorator), ["property", "classmethod", "staticmethod"], place)
                 self.assertNotIn(node, tree.body, place)
+
+    def test_l5_operators_and_lengths(self):
+        """An operator changes nothing, and a length is that of a list or a dict."""
+        for place, tree, node in nodes(ast.FunctionDef):
+            if node.name in ["__contains__", "__len__", "__eq__"]:
+                changes = [inner for inner in ast.walk(node) if isinstance(getattr(inner, "ctx", None), (ast.Store, ast.Del))]
+                self.assertEqual(changes, [], place)
+            if node.name == "__len__":
+                self.assertEqual([ast.unparse(inner)[:11] for inner in node.body[1:]], ["return len("], place)
 
     def test_l6_l7_statements_and_expressions(self):
         self.assertEqual([place for place, tree, node in nodes(*BARRED_NODES)], [])
