@@ -1,4 +1,4 @@
-"""Climbs: from the states of a task to those of the tasks above it (points 11 to 16).
+"""Climbs: from the states of a task to those of the tasks above it (points 11 to 18).
 
 A row is a tuple of states that one task has, one at a time. The row of the task above is told by
 the row alone, for each choice of the other parts; so the search for surroundings is one among rows.
@@ -10,10 +10,10 @@ from partstold.waiting import Waiting
 
 
 class Choices:
-    """What the choices of other parts make of a task, each as a way.
+    """The choices of what stands beside one part of a task, or beside two, and what they make of the task.
 
-    A way is a tuple of the size of the other parts, of these parts, and of a dict from what the parts that
-    are not chosen may have (the keys) to the states of the task.
+    Each is a way: a tuple of the size of the other parts, of these parts, and of a dict from keys to the states
+    of the task. A key is the state of the one part, or the pair of the states of the two.
     """
 
     def __init__(self, ways, keys):
@@ -21,7 +21,7 @@ class Choices:
         self.ways_by_keys = {}
 
     def unlike(self, keys):
-        """Returns least ways, one for each thing they can make of some keys, which are a tuple."""
+        """Returns least ways, one for each thing they can make of the keys of a tuple."""
         if keys not in self.ways_by_keys:
             self.ways_by_keys[keys] = unlike_ways(self.all_ways, keys)
         return self.ways_by_keys[keys]
@@ -96,9 +96,7 @@ def climbed_on(ways, starts):
     sizes = {}
     waiting = Waiting()
     for size, place, thing in starts:
-        if place not in sizes or size < sizes[place]:
-            sizes[place] = size
-            waiting.wait(size, (place, thing))
+        waiting.wait(size, (place, thing))
     while not waiting.is_empty():
         size, rows = waiting.leave()
         reached = {place: thing for place, thing in rows if place not in found}

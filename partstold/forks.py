@@ -71,7 +71,7 @@ def joins_at(ways, name, firsts, seconds):
     for one, (size_one, first) in first_pairs.items():
         for two, (size_two, second) in second_pairs.items():
             keys = tuple([(state, other) for other in two for state in one])
-            for size_of_others, others, told in choices.unlike(keys):
+            for size_of_others, others, told in choices.unlike(tuple(sorted(set(keys)))):
                 row = tuple([told[key] for key in keys])
                 size = 1 + size_one + size_two + size_of_others
                 if row not in best or size < best[row][0]:
@@ -82,8 +82,9 @@ def joins_at(ways, name, firsts, seconds):
 def least_pairs(found, kinds):
     """Returns a dict from the pairs of states that parts of some kinds have to sizes and least surroundings."""
     best = {}
+    # What is climbed to comes in ascending order of the size.
     for (kind, pair), row in found.items():
-        if kind in kinds and (pair not in best or row[0] < best[pair][0]):
+        if kind in kinds and pair not in best:
             best[pair] = row
     return best
 

@@ -238,10 +238,13 @@ class FilledTwice(unittest.TestCase):
             ("task", (("task", (("step", "dropped"),)),)))))
 
     def test_a_hole_at_the_left_may_be_the_deeper_or_the_higher_one(self):
-        deep = ("a", (("b", ()), ))
         self.assertEqual(filled_twice(("a", (("b", ((),)), ())), ("c", "x"), ("d", "y")), ("a", (("b", (("c", "x"),)), ("d", "y"))))
         self.assertEqual(filled_twice(("a", ((), ("b", ((),)))), ("c", "x"), ("d", "y")), ("a", (("c", "x"), ("b", (("d", "y"),)))))
-        self.assertEqual(len(deep), 2)
+
+    def test_parts_without_holes_stay_as_they_are(self):
+        other = ("b", (("c", "z"), ("b", (("c", "z"),))))
+        told = filled_twice(("a", (other, ("b", (other, (), other)), other, (), other)), ("c", "x"), ("d", "y"))
+        self.assertEqual(told, ("a", (other, ("b", (other, ("c", "x"), other)), other, ("d", "y"), other)))
 
     def test_lists_whichever_book_and_nothing_modified(self):
         double, first, second = listed(self.DOUBLE), ["any", "thing"], ["no", [["book", "has"]]]
